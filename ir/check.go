@@ -2,28 +2,8 @@ package ir
 
 import (
 	"moot/api"
+	"moot/grammar"
 	"moot/word"
-)
-
-// The expressions beside layer 1's operations, by their Op.
-const (
-	opConst = 26 + iota
-	opLocal
-	opLoad
-	opCall
-	opHash
-	opPre
-)
-
-// The statements, by their Kind.
-const (
-	kindSet = 1 + iota
-	kindStore
-	kindIf
-	kindWhile
-	kindReturn
-	kindDo
-	kindHalt
 )
 
 // Check: is a program right? ErrDeep, ErrFull, ErrShape.
@@ -54,13 +34,13 @@ func Check(p []api.Func) error {
 // parts: the expressions and the lists of a statement that are looked at.
 func parts(x api.Stmt) ([]api.Expr, [][]api.Stmt) {
 	switch x.Kind {
-	case kindSet, kindReturn, kindDo, kindHalt:
+	case grammar.Set, grammar.Return, grammar.Do, grammar.Halt:
 		return []api.Expr{x.A}, nil
-	case kindStore:
+	case grammar.Store:
 		return []api.Expr{x.A, x.B}, nil
-	case kindIf:
+	case grammar.If:
 		return []api.Expr{x.A}, [][]api.Stmt{x.Body, x.Else}
-	case kindWhile:
+	case grammar.While:
 		return []api.Expr{x.A}, [][]api.Stmt{x.Body}
 	}
 	return nil, nil
@@ -131,7 +111,7 @@ func countExpr(x api.Expr, n int) int {
 // rightList: of the function that stands at a place of the program.
 func rightList(p []api.Func, at int, list []api.Stmt) bool {
 	for _, x := range list {
-		if x.Kind < kindSet || x.Kind > kindHalt || x.Kind == kindSet && (x.N < 0 || x.N >= p[at].Locals) {
+		if x.Kind < grammar.Set || x.Kind > grammar.Halt || x.Kind == grammar.Set && (x.N < 0 || x.N >= p[at].Locals) {
 			return false
 		}
 		exprs, lists := parts(x)
@@ -165,18 +145,18 @@ func rightExpr(p []api.Func, at int, x api.Expr) bool {
 // argsOf: how many arguments an expression needs, and whether its Op and its N may be.
 func argsOf(p []api.Func, at int, x api.Expr) (int, bool) {
 	switch x.Op {
-	case opConst:
+	case grammar.Const:
 		return 0, true
-	case opLocal:
+	case grammar.Local:
 		return 0, x.N < uint64(p[at].Locals)
-	case opLoad:
+	case grammar.Load:
 		return 1, true
-	case opCall:
+	case grammar.Call:
 		if x.N <= uint64(at) || x.N >= uint64(len(p)) {
 			return 0, false
 		}
 		return p[x.N].Params, true
-	case opHash, opPre:
+	case grammar.Hash, grammar.Pre:
 		return 2, true
 	}
 	n, err := word.Args(x.Op)

@@ -2,15 +2,10 @@ package ir
 
 import (
 	"moot/api"
+	"moot/grammar"
 	"moot/witness"
 	"moot/word"
 	"moot/wordbytes"
-)
-
-// How many words a preimage and a digest have.
-const (
-	preWords    = 8
-	digestWords = 4
 )
 
 // run is a program that is run. What ends it at once is told by a false beside each value, up to the first function.
@@ -71,7 +66,7 @@ func (r *run) list(f *frame, list []api.Stmt) flow {
 }
 
 func (r *run) statement(f *frame, x api.Stmt) flow {
-	if x.Kind == kindWhile {
+	if x.Kind == grammar.While {
 		return r.loop(f, x)
 	}
 	if !r.spend() {
@@ -82,19 +77,19 @@ func (r *run) statement(f *frame, x api.Stmt) flow {
 		return ended
 	}
 	switch x.Kind {
-	case kindSet:
+	case grammar.Set:
 		f.locals[x.N] = a
-	case kindStore:
+	case grammar.Store:
 		return r.storeAt(f, a, x.B)
-	case kindIf:
+	case grammar.If:
 		if a != 0 {
 			return r.list(f, x.Body)
 		}
 		return r.list(f, x.Else)
-	case kindReturn:
+	case grammar.Return:
 		f.value = a
 		return returned
-	case kindHalt:
+	case grammar.Halt:
 		r.end(a)
 		return ended
 	}
@@ -145,20 +140,20 @@ func (r *run) value(f *frame, x api.Expr) (uint64, bool) {
 		args[i] = v
 	}
 	switch x.Op {
-	case opConst:
+	case grammar.Const:
 		return x.N, true
-	case opLocal:
+	case grammar.Local:
 		return f.locals[x.N], true
-	case opLoad:
+	case grammar.Load:
 		if args[0] >= api.DataSize {
 			return r.end(api.Wrong)
 		}
 		return r.memory[args[0]], true
-	case opCall:
+	case grammar.Call:
 		return r.call(x.N, args[:len(x.Args)])
-	case opHash:
+	case grammar.Hash:
 		return r.hash(args[0], args[1])
-	case opPre:
+	case grammar.Pre:
 		return r.preimage(args[0], args[1])
 	}
 	v, err := word.Apply(x.Op, args[0], args[1], args[2])
@@ -171,7 +166,7 @@ func within(place, n uint64) bool {
 }
 
 func (r *run) hash(from, to uint64) (uint64, bool) {
-	if !within(from, preWords) || !within(to, digestWords) {
+	if !within(from, wordbytes.PreWords) || !within(to, wordbytes.HashWords) {
 		return r.end(api.Wrong)
 	}
 	p := api.Pre{}
@@ -185,7 +180,7 @@ func (r *run) hash(from, to uint64) (uint64, bool) {
 }
 
 func (r *run) preimage(from, to uint64) (uint64, bool) {
-	if !within(from, digestWords) || !within(to, preWords) {
+	if !within(from, wordbytes.HashWords) || !within(to, wordbytes.PreWords) {
 		return r.end(api.Wrong)
 	}
 	h := api.Hash{}

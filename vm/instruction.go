@@ -1,22 +1,9 @@
 package vm
 
-import "moot/api"
-
-// The operations beside HALT and those of layer 1, by their numbers.
-const (
-	li = 26 + iota
-	load
-	store
-	jump
-	jz
-	jnz
-	jal
-	jr
-	hash
-	pre
+import (
+	"moot/api"
+	"moot/opcode"
 )
-
-const halt = 0
 
 // Where the parts of an instruction stand, counted in bits.
 const (
@@ -30,7 +17,7 @@ const (
 
 // Code: an instruction. ErrRange.
 func Code(op, d, a, b, c int, n int64) (uint64, error) {
-	if op < halt || op > pre || n < -1<<31 || n >= 1<<31 {
+	if op < opcode.Halt || op > opcode.Pre || n < -1<<31 || n >= 1<<31 {
 		return 0, api.ErrRange
 	}
 	for _, register := range [4]int{d, a, b, c} {
@@ -45,7 +32,7 @@ func Code(op, d, a, b, c int, n int64) (uint64, error) {
 func Parts(word uint64) (op, d, a, b, c int, n int64, ok bool) {
 	cut := func(at, mask uint64) int { return int(word >> at & mask) }
 	op = cut(opAt, 255)
-	if op > pre || cut(n0At, 255) != 0 {
+	if op > opcode.Pre || cut(n0At, 255) != 0 {
 		return 0, 0, 0, 0, 0, 0, false
 	}
 	return op, cut(dAt, 15), cut(aAt, 15), cut(bAt, 15), cut(cAt, 15), int64(int32(word)), true

@@ -2,15 +2,10 @@ package vm
 
 import (
 	"moot/api"
+	"moot/opcode"
 	"moot/witness"
 	"moot/word"
 	"moot/wordbytes"
-)
-
-// How many words a preimage and a digest have.
-const (
-	preWords    = 8
-	digestWords = 4
 )
 
 // step: what a step changes is laid down at its end, so that one that goes wrong leaves all as it was.
@@ -29,18 +24,18 @@ func (m *Machine) step(s *witness.Store) {
 	}
 	r := &m.Registers
 	switch {
-	case op == halt:
+	case op == opcode.Halt:
 		m.Pc++
 		m.stop(r[a])
-	case op < li:
+	case op < opcode.Li:
 		r[d], _ = word.Apply(op, r[a], r[b], r[c])
 		m.Pc++
-	case op == li:
+	case op == opcode.Li:
 		r[d] = uint64(n)
 		m.Pc++
-	case op <= store:
+	case op <= opcode.Store:
 		m.access(op, d, b, r[a]+uint64(n))
-	case op <= jr:
+	case op <= opcode.Jr:
 		m.jump(op, d, a, uint64(n))
 	default:
 		m.exchange(s, op, r[a], r[b])
@@ -57,7 +52,7 @@ func (m *Machine) access(op, d, b int, where uint64) {
 		m.stop(api.Wrong)
 		return
 	}
-	if op == load {
+	if op == opcode.Load {
 		m.Registers[d] = m.Memory[where]
 	} else {
 		m.Memory[where] = m.Registers[b]
@@ -68,10 +63,10 @@ func (m *Machine) access(op, d, b int, where uint64) {
 func (m *Machine) jump(op, d, a int, to uint64) {
 	v := m.Registers[a]
 	switch op {
-	case jr:
+	case opcode.Jr:
 		to = v
-	case jz, jnz:
-		if (v == 0) != (op == jz) {
+	case opcode.Jz, opcode.Jnz:
+		if (v == 0) != (op == opcode.Jz) {
 			m.Pc++
 			return
 		}
@@ -80,7 +75,7 @@ func (m *Machine) jump(op, d, a int, to uint64) {
 		m.stop(api.Wrong)
 		return
 	}
-	if op == jal {
+	if op == opcode.Jal {
 		m.Registers[d] = m.Pc + 1
 	}
 	m.Pc = to
@@ -88,8 +83,8 @@ func (m *Machine) jump(op, d, a int, to uint64) {
 
 // exchange: a digest for a preimage, or a preimage for a digest.
 func (m *Machine) exchange(s *witness.Store, op int, from, to uint64) {
-	reads, writes := uint64(preWords), uint64(digestWords)
-	if op == pre {
+	reads, writes := uint64(wordbytes.PreWords), uint64(wordbytes.HashWords)
+	if op == opcode.Pre {
 		reads, writes = writes, reads
 	}
 	if from > size-reads || to > size-writes {
@@ -113,7 +108,7 @@ func (m *Machine) exchange(s *witness.Store, op int, from, to uint64) {
 
 // exchanged: for a preimage its digest, which then is in the store; for a digest its preimage, if there is one.
 func exchanged(s *witness.Store, op int, taken api.Pre) (api.Pre, bool) {
-	if op == pre {
+	if op == opcode.Pre {
 		h := api.Hash{}
 		copy(h[:], taken[:])
 		p, err := s.Get(h)

@@ -3,8 +3,12 @@ package wordbytes
 
 import "moot/api"
 
-// Size is how many bytes a word has.
-const Size = 8
+// Size is how many bytes a word has; PreWords and HashWords are how many words a preimage and a digest have.
+const (
+	Size      = 8
+	PreWords  = 8
+	HashWords = 4
+)
 
 // Put: the word at a place of b, counted in words.
 func Put(b []byte, place int, v uint64) {
