@@ -6,6 +6,7 @@ const (
 	Add      = 1
 	Sub      = 2
 	Iszero   = 21
+	And      = 22
 	LastWord = 25
 )
 

@@ -52,10 +52,22 @@ func anyCall(list []api.Expr) bool {
 	return false
 }
 
+// near: can a place not be so far that the base in front of it leads round to the machine's beginning?
+func (p place) near() bool {
+	if p.offset < 0 {
+		return false
+	}
+	if p.from.Op == grammar.And {
+		_, ok := small(p.from.Args[1])
+		return ok && p.from.Args[1].N < reach
+	}
+	return p.from.Op == grammar.Const && p.from.N == 0
+}
+
 // check: goes wrong, if a register's value and the offset are no place of the machine. So what is below 2^13 is left, and with the base in front of it just the program's memory can be met.
-func (c *compiler) check(register, offset int) {
-	if register != zero || offset < 0 {
-		c.emit(opcode.Load, scratch, register, 0, 0, offset)
+func (c *compiler) check(p place, register int) {
+	if !p.near() {
+		c.emit(opcode.Load, scratch, register, 0, 0, p.offset)
 	}
 }
 
@@ -107,7 +119,7 @@ func (c *compiler) value(x api.Expr, k int) {
 	case grammar.Load:
 		at := splitPlace(x.Args[0])
 		from := c.operand(at.from, k)
-		c.check(from, at.offset)
+		c.check(at, from)
 		c.emit(opcode.Load, k, from, 0, 0, base+at.offset)
 	case grammar.Call:
 		c.call(x)
@@ -165,8 +177,8 @@ func (c *compiler) call(x api.Expr) {
 func (c *compiler) exchange(x api.Expr, k int) {
 	from, to := splitPlace(x.Args[0]), splitPlace(x.Args[1])
 	registers := c.operands([]api.Expr{from.from, to.from}, k)
-	c.check(registers[0], from.offset)
-	c.check(registers[1], to.offset)
+	c.check(from, registers[0])
+	c.check(to, registers[1])
 	// The two registers behind those of the operands take the places themselves.
 	free := k + 2
 	c.emitPlace(free, registers[0], from.offset)

@@ -80,7 +80,7 @@ func TestPlaces(t *testing.T) {
 	}
 	for _, v := range edges {
 		for _, off := range []uint64{0, 1, 5, 2047, 6144, ones, ones - 6143, 1 << 40} {
-			places := []api.Expr{num(v), op(1, num(v), num(off)), op(2, num(v), num(off)), op(1, local(0), num(off)), op(2, local(0), num(off)), op(1, num(off), local(0)), local(0)}
+			places := []api.Expr{op(22, local(0), num(off)), op(1, op(22, local(0), num(off)), num(v)), op(1, op(22, local(0), num(2047)), num(off)), num(v), op(1, num(v), num(off)), op(2, num(v), num(off)), op(1, local(0), num(off)), op(2, local(0), num(off)), op(1, num(off), local(0)), local(0)}
 			for _, at := range places {
 				agree(t, program(1, set(0, num(v)), ret(load(at))), data, s)
 				agree(t, program(1, set(0, num(v)), store(at, num(9)), ret(num(1))), data, s)

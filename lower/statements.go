@@ -28,7 +28,7 @@ func (c *compiler) statement(x api.Stmt) {
 	case grammar.Store:
 		at := splitPlace(x.A)
 		registers := c.operands([]api.Expr{at.from, x.B}, first)
-		c.check(registers[0], at.offset)
+		c.check(at, registers[0])
 		c.emit(opcode.Store, 0, registers[0], registers[1], 0, base+at.offset)
 	case grammar.If:
 		c.either(x)
