@@ -110,3 +110,23 @@ func choose(x api.Expr, picks ...pick) []api.Stmt {
 	low, high := choose(x, picks[:middle]...), choose(x, picks[middle:]...)
 	return block(either(below(x, num(uint64(picks[middle].from))), low, high))
 }
+
+// fresh: the same statements in memory of their own, for a builder may have used one expression twice.
+func fresh(list []api.Stmt) []api.Stmt {
+	copied := []api.Stmt{}
+	for _, x := range list {
+		x.A, x.B = freshExpr(x.A), freshExpr(x.B)
+		x.Body, x.Else = fresh(x.Body), fresh(x.Else)
+		copied = append(copied, x)
+	}
+	return copied
+}
+
+func freshExpr(x api.Expr) api.Expr {
+	args := []api.Expr{}
+	for _, arg := range x.Args {
+		args = append(args, freshExpr(arg))
+	}
+	x.Args = args
+	return x
+}

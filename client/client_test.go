@@ -98,6 +98,43 @@ func TestProgram(t *testing.T) {
 	t.Logf("%d words", len(x.Words))
 }
 
+// P14.1: no two lists of the program share memory, nor do two programs.
+func TestProgramMemory(t *testing.T) {
+	exprs, stmts := map[*api.Expr]int{}, map[*api.Stmt]int{}
+	var walkExpr func(x api.Expr)
+	var walk func(list []api.Stmt)
+	walkExpr = func(x api.Expr) {
+		for i := range x.Args {
+			exprs[&x.Args[i]]++
+			walkExpr(x.Args[i])
+		}
+	}
+	walk = func(list []api.Stmt) {
+		for i := range list {
+			stmts[&list[i]]++
+			walkExpr(list[i].A)
+			walkExpr(list[i].B)
+			walk(list[i].Body)
+			walk(list[i].Else)
+		}
+	}
+	for range 2 {
+		for _, f := range Program() {
+			walk(f.Body)
+		}
+	}
+	for _, n := range exprs {
+		if n > 1 {
+			t.Fatal("expressions are shared")
+		}
+	}
+	for _, n := range stmts {
+		if n > 1 {
+			t.Fatal("statements are shared")
+		}
+	}
+}
+
 // P14.1: the input's words.
 func TestInput(t *testing.T) {
 	root, out, batch := api.Hash{7: 1, 15: 2}, api.Hash{31: 3}, api.Hash{0: 1, 30: 4}
@@ -404,7 +441,13 @@ func TestSteps(t *testing.T) {
 	}
 	round := func(body ...byte) []byte { return pad(append(append([]byte{43}, body...), 32, 0, 41)...) }
 	calls := func(to, gas byte) []byte { return []byte{32, gas, 32, 0, 32, 1, 32, to, 52, 34} }
+	// As many calls as the gas is enough for: each one takes what the one ahead of it has put.
+	line := []byte{32, 1, 32, 0, 32, 1, 32, 3, 52}
+	for len(line) < 58 {
+		line = append(line, 32, 0, 32, 1, 32, 3, 52)
+	}
 	codes := map[string][]byte{
+		"calls in line": line,
 		"calls":         round(append([]byte{32, 0, 32, 0, 32, 0, 32, 2, 52}, []byte{36, 1}...)...),
 		"calls round":   round(calls(3, 0)...),
 		"calls on":      round(calls(3, 90)...),
@@ -420,7 +463,7 @@ func TestSteps(t *testing.T) {
 		"words":         round(32, 3, 32, 2, 32, 1, 9, 34),
 	}
 	for name, code := range codes {
-		for _, other := range [][]byte{pad(), round(), pad(32, 0, 41), pad(26)} {
+		for _, other := range [][]byte{pad(), round(), pad(32, 0, 41), pad(26), pad(0)} {
 			s, x := empty(t)
 			for a := range uint64(8) {
 				x.Set(a, 0, 1<<40)

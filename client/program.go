@@ -46,6 +46,9 @@ func Program() []api.Func {
 	p[fnFail] = failFunction()
 	p[fnRead] = readFunction()
 	p[fnUpdate] = updateFunction()
+	for i := range p {
+		p[i].Body = fresh(p[i].Body)
+	}
 	return p
 }
 
