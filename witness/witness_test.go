@@ -254,6 +254,28 @@ func TestClash(t *testing.T) {
 	}
 }
 
+// A store that takes over a copy has its preimages, and its own digests that were asked.
+func TestTake(t *testing.T) {
+	s := New()
+	s.Get(zero(3))
+	c := s.Copy()
+	h, _ := c.Add(api.Pre{7})
+	c.Drop(zero(4))
+	s.Take(c)
+	if s.Len() != 16 || s.Drop(h) != nil || s.Drop(zero(4)) != api.ErrMissing {
+		t.Error("other preimages")
+	}
+	if asked := s.Asked(); len(asked) != 1 || asked[0] != zero(3) {
+		t.Errorf("asked %x", asked)
+	}
+	var none *Store
+	none.Take(s)
+	s.Take(none)
+	if s.Len() != 15 {
+		t.Error("nil was taken")
+	}
+}
+
 // P1: a store that New did not give does not panic.
 func TestBareStore(t *testing.T) {
 	s := &Store{}
