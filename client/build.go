@@ -78,22 +78,25 @@ func further(from api.Expr, offset int) api.Expr {
 func hash(from, to api.Expr) api.Stmt     { return do(apply(grammar.Hash, from, to)) }
 func preimage(from, to api.Expr) api.Stmt { return do(apply(grammar.Pre, from, to)) }
 
-func add(a, b api.Expr) api.Expr      { return apply(1, a, b) }
-func sub(a, b api.Expr) api.Expr      { return apply(2, a, b) }
-func times(a, b api.Expr) api.Expr    { return apply(3, a, b) }
-func byteOf(a, b api.Expr) api.Expr   { return apply(12, a, b) }
-func shl(by, b api.Expr) api.Expr     { return apply(13, by, b) }
-func shr(by, b api.Expr) api.Expr     { return apply(14, by, b) }
-func below(a, b api.Expr) api.Expr    { return apply(16, a, b) }
-func above(a, b api.Expr) api.Expr    { return apply(17, a, b) }
-func equal(a, b api.Expr) api.Expr    { return apply(20, a, b) }
-func isZero(a api.Expr) api.Expr      { return apply(21, a) }
-func and(a, b api.Expr) api.Expr      { return apply(22, a, b) }
-func or(a, b api.Expr) api.Expr       { return apply(23, a, b) }
-func xor(a, b api.Expr) api.Expr      { return apply(24, a, b) }
-func invert(a api.Expr) api.Expr      { return apply(25, a) }
+func add(a, b api.Expr) api.Expr      { return apply(grammar.Add, a, b) }
+func sub(a, b api.Expr) api.Expr      { return apply(grammar.Sub, a, b) }
+func times(a, b api.Expr) api.Expr    { return apply(grammar.Mul, a, b) }
+func byteOf(a, b api.Expr) api.Expr   { return apply(grammar.Byte, a, b) }
+func shl(by, b api.Expr) api.Expr     { return apply(grammar.Shl, by, b) }
+func shr(by, b api.Expr) api.Expr     { return apply(grammar.Shr, by, b) }
+func below(a, b api.Expr) api.Expr    { return apply(grammar.Lt, a, b) }
+func above(a, b api.Expr) api.Expr    { return apply(grammar.Gt, a, b) }
+func equal(a, b api.Expr) api.Expr    { return apply(grammar.Eq, a, b) }
+func isZero(a api.Expr) api.Expr      { return apply(grammar.Iszero, a) }
+func and(a, b api.Expr) api.Expr      { return apply(grammar.And, a, b) }
+func or(a, b api.Expr) api.Expr       { return apply(grammar.Or, a, b) }
+func xor(a, b api.Expr) api.Expr      { return apply(grammar.Xor, a, b) }
+func invert(a api.Expr) api.Expr      { return apply(grammar.Not, a) }
 func field(n int) api.Expr            { return word(frameAt + n) }
 func keep(n int, v api.Expr) api.Stmt { return lay(frameAt+n, v) }
+
+// account: where the words of an account begin in the state.
+func account(n api.Expr) api.Expr { return shl(num(accountBits), n) }
 
 // pick is what is done from a number on, up to the next one's.
 type pick struct {

@@ -17,7 +17,7 @@ func enterFunction() api.Func {
 	end := further(shr(num(3), local(length)), frameAt+codeField)
 	ones := uint64(1<<64 - 1)
 	return function(0, 3,
-		set(base, shl(num(5), field(selfField))),
+		set(base, account(field(selfField))),
 		set(length, call(fnRead, further(local(base), lengthSlot))),
 		when(above(local(length), num(api.CodeSize)), halt(api.ClientBad)),
 		do(call(fnCopy, num(noughtsAt), num(frameAt+memoryField), num(freshSize/blockSize))),

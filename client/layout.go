@@ -1,6 +1,9 @@
 package client
 
-import "moot/api"
+import (
+	"moot/api"
+	"moot/grammar"
+)
 
 // Where things stand in the program's memory. The root and the outbox are the halves of the output, and the outbox and what is behind it those of a longer one.
 const (
@@ -79,6 +82,7 @@ const (
 
 // The words of an account.
 const (
+	accountBits = 5 // so many bits tell one from the others
 	balanceSlot = 0
 	nonceSlot   = 1
 	lengthSlot  = 2
@@ -89,7 +93,7 @@ const (
 // The operations of account code that the program tells apart.
 const (
 	opStop = 0
-	opWord = 1 // and the further ones of layer 1
+	opWord = grammar.Add // and the further ones of layer 1
 )
 
 const (

@@ -25,11 +25,11 @@ func shapeOf(op int) uint64 {
 	switch {
 	case op == opStop:
 		return 0
-	case op == 8 || op == 9:
+	case op == grammar.Addmod || op == grammar.Mulmod:
 		return shape(3, 1, 1, 0)
-	case op == 21 || op == 25:
+	case op == grammar.Iszero || op == grammar.Not:
 		return shape(1, 1, 1, 0)
-	case op < 25:
+	case op < grammar.Not:
 		return shape(2, 1, 1, 0)
 	case op >= opTold && op < opBalance || op == opAnswer:
 		return shape(0, 1, 1, 0)
@@ -137,7 +137,7 @@ func deep() api.Expr {
 	return further(sub(local(performHeight), local(performN)), frameAt+stackField-1)
 }
 
-// performFunction: an operation that was paid for.
+// performFunction: an operation that was paid for. What lies below the stack is looked at, too, but then not used.
 func performFunction() api.Func {
 	op, n, a, b := local(performOp), local(performN), local(performA), local(performB)
 	push := func(v api.Expr) []api.Stmt { return block(do(call(fnPush, v))) }
@@ -145,7 +145,7 @@ func performFunction() api.Func {
 	end := func(status uint64, v api.Expr) []api.Stmt {
 		return block(lay(resultAt, v), lay(statusAt, num(status)))
 	}
-	balanceOf := shl(num(5), a)
+	balanceOf := account(a)
 	body := block(set(performA, peek(0)), set(performB, peek(1)))
 	body = append(body, choose(op,
 		pick{opStop, end(finished, num(0))},
@@ -172,7 +172,7 @@ func performFunction() api.Func {
 
 // access: to memory or storage, at a place that they have.
 func access(a, b api.Expr) []api.Stmt {
-	stored := further(add(shl(num(5), field(selfField)), a), storageSlot)
+	stored := further(add(account(field(selfField)), a), storageSlot)
 	return choose(local(performOp),
 		pick{opMload, block(do(call(fnPush, wordAt(a, frameAt+memoryField))))},
 		pick{opMstore, block(store(further(a, frameAt+memoryField), b))},
@@ -189,7 +189,7 @@ func jump(to api.Expr) []api.Stmt {
 func wordOpFunction() api.Func {
 	const op, a, b, c = 0, 1, 2, 3
 	picks := []pick{}
-	for n := 1; n <= 25; n++ {
+	for n := opWord; n <= grammar.Not; n++ {
 		operands := []api.Expr{local(a), local(b), local(c)}
 		picks = append(picks, pick{n, block(give(apply(n, operands[:shapeOf(n)&15]...)))})
 	}

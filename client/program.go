@@ -75,7 +75,7 @@ func mainFunction() api.Func {
 func transactFunction() api.Func {
 	const at, balance, left = 0, 1, 2
 	record := func(n int) api.Expr { return word(recordAt + n) }
-	place := func(slot int) api.Expr { return further(shl(num(5), record(fromField)), slot) }
+	place := func(slot int) api.Expr { return further(account(record(fromField)), slot) }
 	needed := add(record(txValueField), record(txGasField))
 	// Of two bits of the place the higher one is that of the root's halves, so that each stands for four words where it is.
 	half := func(up, node int) api.Expr {
@@ -113,7 +113,7 @@ func transactFunction() api.Func {
 // moveFunction: from an account to another one a value; 1, if it was moved. The taker's balance isn't read, where the giver's is too little.
 func moveFunction() api.Func {
 	const from, to, value, giver, taker = 0, 1, 2, 3, 4
-	balanceOf := func(n int) api.Expr { return shl(num(5), local(n)) }
+	balanceOf := func(n int) api.Expr { return account(local(n)) }
 	return function(3, 5,
 		set(giver, call(fnRead, balanceOf(from))),
 		when(below(local(giver), local(value)), give(num(0))),
