@@ -89,6 +89,14 @@ func TestProposals(t *testing.T) {
 	play(t, c, "batch -", "E5")
 }
 
+// P22.1: a lie is never the truth, whatever the root's first byte.
+func TestLies(t *testing.T) {
+	for i := range 6 {
+		c := New()
+		play(t, c, "fund 1 "+strconv.Itoa(i), "ok", "open", "ok", "batch -", "ok 0", "propose 3", "ok 0", "lie 3 0", "ok 1", "lie 3 1", "ok 2", "lie 3 2", "ok 3", "lie 3 3", "ok 4")
+	}
+}
+
 // P22.1: several batches, one after the other; the messages of all are withdrawn.
 func TestBatches(t *testing.T) {
 	c := New()

@@ -91,11 +91,6 @@ func parseArguments(kinds string, words []string) (arguments, bool) {
 }
 
 func parseNumber(word string) (uint64, bool) {
-	for i := range len(word) {
-		if word[i] < '0' || word[i] > '9' {
-			return 0, false
-		}
-	}
 	if len(word) > 1 && word[0] == '0' {
 		return 0, false
 	}

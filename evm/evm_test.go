@@ -306,6 +306,7 @@ func TestCalls(t *testing.T) {
 		{"messages", join([]byte{32, 1, 51}, callOf(7, 0, 5, 20), []byte{32, 3, 51, 53, 54}), []byte{32, 2, 51}, 0, 41, 1000, 1000, []api.Message{{From: 6, Word: 1}, {From: 7, Word: 2}, {From: 6, Word: 3}}},
 		{"too little", join(callOf(7, 200, 5, 50), []byte{32, 250, 1, 54}), []byte{32, 9, 54}, 251, 17, 800, 1200, nil},
 		{"to itself", join(callOf(6, 30, 5, 0), ok), nil, 0, 13, 1000, 1000, nil},
+		{"all it has, to itself", []byte{46, 32, 13, 42, 32, 20, 32, 1, 48, 49, 48, 52, 54, 43}, nil, 1, 24, 1000, 1000, nil},
 	} {
 		x := with(t, map[uint64][]byte{6: c.self, 7: c.callee})
 		o, err := Run(x, Frame{Self: 6, Caller: 4, Gas: 90})

@@ -180,6 +180,9 @@ func TestErrors(t *testing.T) {
 			t.Errorf("%d: %v", i, err)
 		}
 	}
+	if h, err := traceOf(t, m, 20).At(1<<20 - 1); h == (api.Hash{}) || err != nil {
+		t.Errorf("the deepest trace: %v", err)
+	}
 	x := traceOf(t, m, 4)
 	var none *Trace
 	var noGame *game.Game

@@ -103,6 +103,8 @@ func TestStatements(t *testing.T) {
 	want(t, 0, 2, program(0, while(num(0), halt(num(9)))))
 	want(t, 9, 4, program(0, while(num(1), ret(num(9)))))
 	want(t, 3, 2, program(0, halt(num(3)), halt(num(4))))
+	want(t, api.Wrong, 4, program(0, do(op(25, load(num(2048)))), halt(num(1))))
+	want(t, api.Wrong, 5, program(0, store(num(1), op(25, load(num(2048)))), halt(num(1))))
 	want(t, 3, 2+2, []api.Func{{Body: stmts(do(invoke(1)), halt(num(4)))}, {Body: stmts(halt(num(3)))}})
 	want(t, 5, 2+4+2, []api.Func{{Body: stmts(do(invoke(1)), ret(num(5)))}, {Body: stmts(while(num(1), ret(num(3))))}})
 }
@@ -170,6 +172,10 @@ func TestHashAndPre(t *testing.T) {
 			t.Errorf("%v: %d, %v", c, r.Exit, err)
 		}
 	}
+	if r, err := Eval(program(0, do(op(31, num(0), num(8))), do(op(30, num(8), num(20))), ret(num(5))), wordsOf(h[:]), s, 99); err != nil || r.Exit != 5 {
+		t.Errorf("behind a Pre and a Hash: %d, %v", r.Exit, err)
+	}
+	s.Asked()
 	r, err := Eval(program(0, store(num(9), num(4)), ret(op(31, num(0), num(8)))), nil, s, 99)
 	if err != nil || r.Exit != api.Missing || r.Used != 7 || r.Data[9] != 4 {
 		t.Errorf("missing: %d, %v", r.Exit, err)
@@ -193,6 +199,10 @@ func TestFuel(t *testing.T) {
 		if r, err := Eval(p, nil, witness.New(), used); err != nil || r.Used != used {
 			t.Errorf("%d: %v", used, err)
 		}
+	}
+	few := witness.New()
+	if _, err := Eval(program(0, do(op(30, num(0), num(9)))), nil, few, 3); err != api.ErrFuel || few.Len() != 16 {
+		t.Errorf("hashed without fuel: %v", err)
 	}
 	s := witness.New()
 	if _, err := Eval(program(0, do(op(30, num(0), num(9))), store(num(9), num(1)), while(num(1))), []uint64{1}, s, 1000); err != api.ErrFuel || s.Len() != 17 {
@@ -260,6 +270,7 @@ func TestCheck(t *testing.T) {
 		{program(0, deepListOf(15, do(num(1)))...), nil}, {program(0, deepListOf(16, do(num(1)))...), api.ErrDeep}, {program(0, deepListOf(16)...), nil},
 		{program(0, deepListOf(17)...), api.ErrDeep}, {program(0, deepListOf(10, ret(deepExprOf(9)))...), api.ErrDeep},
 		{program(0, many(3000)...), nil}, {program(0, append(many(3000), while(num(0)))...), api.ErrFull}, {program(0, append(many(2999), store(num(0), num(0)))...), api.ErrFull},
+		{program(0, append(many(2998), do(op(1, num(1), num(1))))...), nil}, {program(0, append(many(2999), do(op(1, num(1), num(1))))...), api.ErrFull},
 		{append(program(0, many(1500)...), program(0, many(1501)...)...), api.ErrFull},
 		{program(0, append(many(3001), do(deepExprOf(9)))...), api.ErrDeep}, {program(0, append(many(3001), shapeless)...), api.ErrFull},
 		{append(program(0, shapeless), program(0, do(deepExprOf(9)))...), api.ErrDeep},

@@ -92,6 +92,14 @@ func TestBonds(t *testing.T) {
 	if n, err := l.Lock(3, 101); n != 0 || err != api.ErrFunds {
 		t.Errorf("%d, %v", n, err)
 	}
+	if n, err := New().Lock(3, 0); n != 0 || err != nil {
+		t.Errorf("nothing of nothing: %d, %v", n, err)
+	}
+	all := New()
+	all.PayIn(3, 5)
+	if n, err := all.Lock(3, 5); n != 0 || err != nil || all.Locked() != 5 {
+		t.Errorf("all of it: %d, %v", n, err)
+	}
 	if l.Give(1<<16-1, 3) != nil || l.Give(1<<16, 3) != api.ErrNone {
 		t.Error("the last one")
 	}

@@ -122,10 +122,8 @@ func (c *compiler) value(x api.Expr, k int) {
 		c.check(at, from)
 		c.emit(opcode.Load, k, from, 0, 0, base+at.offset)
 	case grammar.Call:
+		// All that waits for a call waits in the frame, so that k is the first register.
 		c.call(x)
-		if k != first {
-			c.emit(opcode.Or, k, first, first, 0, 0)
-		}
 	case grammar.Hash, grammar.Pre:
 		c.exchange(x, k)
 		c.constant(k, 0)

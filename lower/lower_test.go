@@ -139,6 +139,24 @@ func TestCalls(t *testing.T) {
 	agree(t, []api.Func{{Body: []api.Stmt{ret(invoke(1, args...)), ret(sum)}}, wide, f}, nil, witness.New())
 }
 
+// P13.1: functions that end on one side only, or on none.
+func TestEnds(t *testing.T) {
+	five, seven := []api.Stmt{ret(num(5))}, []api.Stmt{halt(num(7))}
+	on := []api.Stmt{set(1, num(3))}
+	ends := [][]api.Stmt{nil, five, seven, on, {either(local(0), five, on)}, {either(local(0), on, seven)}, {either(local(0), five, seven)}, {either(local(0), nil, five)}, {while(local(0), five...)}, {while(local(0), seven...)}}
+	for _, a := range ends {
+		for _, b := range ends {
+			for cond := range uint64(2) {
+				f := api.Func{Params: 1, Locals: 2, Body: []api.Stmt{either(local(0), a, b)}}
+				g := api.Func{Params: 1, Locals: 2, Body: append([]api.Stmt{either(local(0), b, a)}, a...)}
+				last := api.Func{Body: []api.Stmt{halt(num(99))}}
+				agree(t, []api.Func{{Body: []api.Stmt{ret(op(1, invoke(1, num(cond)), op(3, num(10), invoke(2, num(cond)))))}}, f, g, last}, nil, witness.New())
+				agree(t, []api.Func{{Locals: 2, Body: append([]api.Stmt{set(0, num(cond))}, f.Body...)}, last}, nil, witness.New())
+			}
+		}
+	}
+}
+
 // P13.1: the deepest expressions, leaning to each side.
 func TestDeepExpressions(t *testing.T) {
 	for side := range 3 {

@@ -73,6 +73,7 @@ func cases(t *testing.T, known [4]uint64) []machineCase {
 	return []machineCase{
 		{"halt", code(t, 0, 0, 9, 0, 0, 0), 1, none}, {"add", code(t, 1, 1, 2, 3, 4, 0), 1, none}, {"mulmod", code(t, 9, 1, 2, 3, 4, 0), 1, none}, {"not", code(t, 25, 1, 2, 3, 4, 0), 1, none},
 		{"li", code(t, 26, 1, 0, 0, 0, -5), 1, none}, {"load", code(t, 27, 1, 2, 0, 0, 3), 2, none}, {"load of itself", code(t, 27, 1, 2, 0, 0, -902), 2, none},
+		{"load of the last", code(t, 27, 1, 2, 0, 0, 8191-1002), 2, none}, {"load behind the last", code(t, 27, 1, 2, 0, 0, 8192-1002), 1, none}, {"store behind the last", code(t, 28, 1, 2, 3, 0, 8192-1002), 1, none},
 		{"load beyond", code(t, 27, 1, 2, 0, 0, 1<<20), 1, none}, {"load ahead", code(t, 27, 1, 2, 0, 0, -2000), 1, none},
 		{"store", code(t, 28, 1, 2, 3, 0, 3), 2, none}, {"store over itself", code(t, 28, 0, 2, 3, 0, -902), 2, none}, {"store beyond", code(t, 28, 1, 2, 3, 0, 1<<20), 1, none},
 		{"jump", code(t, 29, 0, 0, 0, 0, 8191), 1, none}, {"jump beyond", code(t, 29, 0, 0, 0, 0, 8192), 1, none}, {"jump ahead", code(t, 29, 0, 0, 0, 0, -1), 1, none},

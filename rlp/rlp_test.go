@@ -51,6 +51,7 @@ func TestEncodeForms(t *testing.T) {
 		{stretch(256), append([]byte{185, 1, 0}, stretch(256).Bytes...)},
 		{list(stretch(54)), append([]byte{247, 182}, stretch(54).Bytes...)},
 		{list(stretch(55)), append([]byte{248, 56, 183}, stretch(55).Bytes...)},
+		{list(stretch(56)), append([]byte{248, 58, 184, 56}, stretch(56).Bytes...)},
 		{list(stretch(300)), append([]byte{249, 1, 47, 185, 1, 44}, stretch(300).Bytes...)},
 		{nested(2, list()), []byte{194, 193, 192}},
 	} {
@@ -113,6 +114,7 @@ func TestDecodeFaults(t *testing.T) {
 		{[]byte{248, 56}, 0, api.ErrEnd}, {[]byte{191, 255, 255, 255, 255, 255, 255, 255, 255, 1}, 0, api.ErrEnd},
 		{[]byte{255, 255, 255, 255, 255, 255, 255, 255, 255, 1}, 0, api.ErrEnd}, {[]byte{195, 193, 129, 7}, 2, api.ErrEnd},
 		{[]byte{196, 193, 7, 129, 7}, 3, api.ErrForm}, {[]byte{192, 192}, 1, api.ErrEnd}, {make([]byte, 4097), 0, api.ErrFull},
+		{[]byte{184, 0}, 0, api.ErrForm}, {[]byte{185, 0, 0}, 0, api.ErrForm}, {[]byte{248, 0}, 0, api.ErrForm},
 		{[]byte{193, 184}, 1, api.ErrEnd}, {[]byte{193, 184, 0}, 1, api.ErrEnd},
 	} {
 		checkFault(t, c.b, c.at, c.why)
