@@ -255,6 +255,93 @@ func TestRandomBatches(t *testing.T) {
 	t.Logf("%d steps at most", most)
 }
 
+func push8(v uint64) []byte {
+	b := []byte{33}
+	for i := 7; i >= 0; i-- {
+		b = append(b, byte(v>>(8*i)))
+	}
+	return b
+}
+
+func join(parts ...[]byte) []byte {
+	var all []byte
+	for _, p := range parts {
+		all = append(all, p...)
+	}
+	return all
+}
+
+// agreeOn: one transaction to account 2, with codes of some accounts, each of which has 1000.
+func agreeOn(t *testing.T, codes map[uint64][]byte) {
+	t.Helper()
+	s, x := empty(t)
+	for a := range uint64(8) {
+		x.Set(a, 0, 1000)
+		if err := x.SetCode(a, codes[a]); err != nil {
+			t.Fatal(err)
+		}
+	}
+	for _, gas := range []uint64{96, 40, 20} {
+		agree(t, s, x.Root(), api.Hash{}, []api.Tx{{From: 1, To: 2, Value: 7, Gas: gas, Data: 5}, {From: 1, To: 2, Nonce: 1, Gas: gas}})
+	}
+}
+
+// P14: each of layer 1's operations, whose words go into the outbox.
+func TestWordOperations(t *testing.T) {
+	for op := byte(1); op <= 25; op++ {
+		for _, v := range [][3]uint64{{1<<64 - 7, 5, 13}, {3, 1 << 63, 7}, {2, 0x0102030405060708, 0}, {0, 0, 1}, {7, 1<<64 - 1, 1 << 40}, {64, 1<<64 - 1, 2}} {
+			agreeOn(t, map[uint64][]byte{2: join(push8(v[2]), push8(v[1]), push8(v[0]), []byte{op, 51})})
+		}
+	}
+}
+
+// P14: jumps to operations and to what stands behind them; codes whose last word or last operation reaches behind their end.
+func TestJumps(t *testing.T) {
+	behind := [][]byte{{32, 43}, {33, 43, 43, 43, 43, 43, 43, 43, 43}, {35, 43}, {36, 43}, {34, 43}, {99, 43}, {43, 43}, {31, 43}}
+	for _, b := range behind {
+		for to := byte(3); to < 14; to++ {
+			code := join([]byte{32, to, 41}, b, []byte{43, 32, 9, 51})
+			agreeOn(t, map[uint64][]byte{2: code})
+			agreeOn(t, map[uint64][]byte{2: {32, 40, 32, 5, 32, 0, 32, 3, 52, 51}, 3: code})
+			agreeOn(t, map[uint64][]byte{2: join([]byte{46, 32, to, 42}, b, []byte{43, 32, 9, 51})})
+		}
+	}
+	for n := range 10 {
+		agreeOn(t, map[uint64][]byte{2: join([]byte{32, 0, 39, 51}, push8(1 << 40)[:n])})
+		s, x := empty(t)
+		x.Set(1, 0, 1000)
+		x.SetCode(2, join([]byte{43, 43, 43, 43, 43, 43, 32, 8, 51, 43, 43, 43, 43, 43, 32, 41}))
+		x.Set(2, 2, uint64(6+n))
+		agree(t, s, x.Root(), api.Hash{}, []api.Tx{{From: 1, To: 2, Gas: 96}})
+	}
+	agreeOn(t, map[uint64][]byte{2: join([]byte{32, 63, 41}, make([]byte, 60), []byte{43})})
+}
+
+// P14: calls within calls down to the deepest frame, each of which may be done, fail or revert behind a change.
+func TestNestedCalls(t *testing.T) {
+	change := func(n byte) []byte { return []byte{32, n, 32, 1, 40} }
+	deeper := func(to byte) []byte { return []byte{32, 90, 32, 4, 32, 3, 32, to, 52, 53} }
+	for mask := range 81 {
+		codes := map[uint64][]byte{}
+		left := mask
+		for depth := range byte(4) {
+			end := [][]byte{{54}, {55}, {26}}[left%3]
+			left /= 3
+			code := []byte{44, 51, 32, 1}
+			if depth < 3 {
+				code = deeper(depth + 3)
+			} else if mask%2 == 0 {
+				code = join(change(9), []byte{32, 1})
+			}
+			codes[uint64(depth+2)] = join(code, end)
+		}
+		agreeOn(t, codes)
+	}
+	agreeOn(t, map[uint64][]byte{2: join(change(1), []byte{32, 1, 51}, deeper(3), []byte{51}), 3: join(change(2), []byte{45, 51, 46, 55})})
+	agreeOn(t, map[uint64][]byte{2: join([]byte{32, 7, 32, 3, 38}, deeper(3), []byte{32, 3, 37, 51, 51}), 3: []byte{32, 3, 37, 51, 32, 8, 32, 3, 38, 47, 54}})
+	agreeOn(t, map[uint64][]byte{2: join(deeper(2), []byte{1, 51})})
+}
+
 // without: a copy of a store that lacks some digests.
 func without(s *witness.Store, list ...api.Hash) *witness.Store {
 	c := s.Copy()

@@ -201,7 +201,7 @@ func TestFuel(t *testing.T) {
 		}
 	}
 	few := witness.New()
-	if _, err := Eval(program(0, do(op(30, num(0), num(9)))), nil, few, 3); err != api.ErrFuel || few.Len() != 16 {
+	if _, err := Eval(program(0, do(op(30, num(0), num(9)))), []uint64{1}, few, 3); err != api.ErrFuel || few.Len() != 16 {
 		t.Errorf("hashed without fuel: %v", err)
 	}
 	s := witness.New()
